@@ -1,0 +1,1 @@
+"""Shapetypes: types by what they allow."""

@@ -1,0 +1,167 @@
+"""The form of the code: the rules of the language subset that can be checked by their form, and the interface."""
+
+import ast
+import builtins
+import pathlib
+import unittest
+
+import shapetypes
+from shapetypes import declarations, errors, shapes
+
+FOLDER = pathlib.Path(shapetypes.__file__).parent
+LIBRARY = ("heapq", "math", "itertools", "collections")
+DECORATORS = ("property", "classmethod", "staticmethod")
+BUILTINS = set(
+    "len range enumerate zip min max sum abs sorted reversed int str bool bytes list tuple dict set frozenset "
+    "isinstance ord repr any all divmod pow getattr hasattr setattr iter next super map type Exception ValueError "
+    "TypeError KeyError IndexError LookupError ZeroDivisionError ArithmeticError OverflowError RuntimeError "
+    "NotImplementedError AttributeError StopIteration NotImplemented property classmethod staticmethod".split()
+)
+SPECIAL = set(
+    "__init__ __eq__ __repr__ __str__ __len__ __enter__ __exit__ __call__ __iter__ __lt__ __le__ __gt__ __ge__ __ne__ "
+    "__add__ __sub__ __mul__ __and__ __or__ __xor__ __neg__ __bool__ __contains__ __getitem__ __setitem__".split()
+)
+BARRED = set(
+    "mro elements open input law version_info with_traceback add_note register attrgetter breakpoint builtins "
+    "compile copyright credits delattr dir eval exec exit gc globals help id importlib license locals methodcaller "
+    "os quit vars typing enum Enum dataclass overload contextmanager Protocol ABC NamedTuple namedtuple".split()
+)
+INTERFACE = {
+    shapes.Atom: ("__init__", "name", "arguments", "text", "__eq__"),
+    shapes.Shape: (
+        "__init__", "of_names", "read", "atoms", "text", "__len__", "__bool__", "__eq__", "__contains__", "__or__",
+        "__and__", "__le__", "__lt__",
+    ),
+    declarations.Way: ("__init__", "gives", "parameters", "MAX_PARAMETERS"),
+    declarations.Method: ("__init__", "of", "name", "ways", "MAX_WAYS"),
+    declarations.Declaration: ("MAX_METHODS",),
+    declarations.Kind: ("__init__", "of", "name", "methods"),
+    declarations.Role: ("__init__", "of", "name", "methods", "marks", "MAX_PARAMETERS"),
+}
+
+
+def files():
+    return sorted(FOLDER.glob("**/*.py"))
+
+
+def docstrings(tree):
+    """The constants that are docstrings."""
+    found = set()
+    for node in ast.walk(tree):
+        if isinstance(node, (ast.Module, ast.ClassDef, ast.FunctionDef)) and ast.get_docstring(node) is not None:
+            found.add(node.body[0].value)
+    return found
+
+
+def bound_names(tree):
+    """The names that a file binds or reads as an attribute."""
+    for node in ast.walk(tree):
+        if isinstance(node, (ast.FunctionDef, ast.ClassDef)):
+            yield node.name
+        elif isinstance(node, ast.Name) and isinstance(node.ctx, ast.Store):
+            yield node.id
+        elif isinstance(node, ast.arg):
+            yield node.arg
+        elif isinstance(node, ast.Attribute):
+            yield node.attr
+
+
+class Language(unittest.TestCase):
+
+    def each(self):
+        for path in files():
+            text = path.read_text(encoding="utf-8")
+            with self.subTest(file=path.name):
+                yield path, text, ast.parse(text)
+
+    def test_files(self):
+        for path in FOLDER.glob("**/*"):
+            if "__pycache__" not in path.parts:
+                self.assertRegex(path.name, r"^[a-z_][a-z0-9_]*\.py$")
+
+    def test_sizes_and_characters(self):
+        for path, text, tree in self.each():
+            self.assertLessEqual(text.count("\n"), 399)
+            for line in text.split("\n"):
+                self.assertLessEqual(len(line), 120)
+                self.assertTrue(all(" " <= sign <= "~" for sign in line), line)
+            for node in ast.walk(tree):
+                if isinstance(node, ast.FunctionDef):
+                    self.assertLessEqual(node.end_lineno - node.lineno + 1, 40, node.name)
+
+    def test_imports(self):
+        needs = {}
+        for path, text, tree in self.each():
+            needs[path.stem] = set()
+            for node in ast.walk(tree):
+                self.assertNotIsInstance(node, ast.Import)
+                if isinstance(node, ast.ImportFrom) and node.module not in LIBRARY:
+                    package, _, module = node.module.partition(".")
+                    self.assertEqual((package, node.level), ("shapetypes", 0))
+                    needs[path.stem].add(module)
+                    defined = ast.parse((FOLDER / f"{module}.py").read_text(encoding="utf-8")).body
+                    named = [part.name for part in defined if isinstance(part, (ast.FunctionDef, ast.ClassDef))]
+                    named += [part.targets[0].id for part in defined if isinstance(part, ast.Assign)]
+                    for alias in node.names:
+                        self.assertIn(alias.name, named)
+        while needs:
+            ready = [name for name in needs if not needs[name] & set(needs)]
+            self.assertTrue(ready, "files import from each other")
+            for name in ready:
+                del needs[name]
+
+    def test_module_level(self):
+        allowed = (ast.ImportFrom, ast.FunctionDef, ast.ClassDef, ast.Assign)
+        for path, text, tree in self.each():
+            for node in tree.body:
+                docstring = isinstance(node, ast.Expr) and isinstance(node.value, ast.Constant)
+                self.assertTrue(docstring or isinstance(node, allowed), ast.unparse(node))
+
+    def test_statements(self):
+        barred = (ast.Global, ast.AsyncFunctionDef, ast.Await, ast.AnnAssign, ast.Div)
+        for path, text, tree in self.each():
+            for node in ast.walk(tree):
+                self.assertNotIsInstance(node, barred)
+                if isinstance(node, ast.FunctionDef):
+                    for decorator in node.decorator_list:
+                        self.assertIn(ast.unparse(decorator), DECORATORS)
+                if isinstance(node, ast.Try):
+                    for handler in node.handlers:
+                        self.assertIsNotNone(handler.type)
+
+    def test_names(self):
+        for path, text, tree in self.each():
+            for name in bound_names(tree):
+                self.assertNotIn(name, BARRED)
+                self.assertTrue(name in SPECIAL or not name.startswith("__"), name)
+            for node in ast.walk(tree):
+                if isinstance(node, ast.Name):
+                    barred = isinstance(node.ctx, ast.Store) or node.id not in BUILTINS
+                    self.assertFalse(barred and hasattr(builtins, node.id), node.id)
+
+    def test_strings(self):
+        for path, text, tree in self.each():
+            documented = docstrings(tree)
+            for node in ast.walk(tree):
+                if isinstance(node, ast.Constant):
+                    self.assertNotIsInstance(node.value, (float, complex))
+                    if isinstance(node.value, str) and node not in documented:
+                        self.assertNotIn("%", node.value)
+
+    def test_interface_is_defined_in_its_classes(self):
+        for made, names in INTERFACE.items():
+            for name in names:
+                self.assertIn(name, vars(made), made.__name__)
+        for name, value in vars(errors).items():
+            if isinstance(value, type) and value is not errors.ShapetypesError:
+                self.assertIn("__init__", vars(value), name)
+
+    def test_interface_is_defined_in_its_files(self):
+        for made in INTERFACE:
+            self.assertTrue(made.__module__ in ("shapetypes.shapes", "shapetypes.declarations"))
+        self.assertEqual(shapes.Shape.__module__, "shapetypes.shapes")
+        self.assertEqual(shapes.Atom.__module__, "shapetypes.shapes")
+
+
+if __name__ == "__main__":
+    unittest.main()
