@@ -11,6 +11,49 @@
 >>> source = Role("Source", Method("get", Way(Shape.read("T"))), T="out")
 >>> cat.methods[0].ways[0].gives.text, cat.methods[0].ways[0].parameters[0].text, source.marks
 ('Cat', 'Fish', (('T', 'out'),))
+
+>>> from shapetypes.declarations import Kind, Method, Role, Way
+>>> from shapetypes.shapes import Shape
+>>> from shapetypes.worlds import World, least_marks
+>>> read = Shape.read
+>>> cat, fish = Kind("Cat", Method("eat", Way(read("Cat"), read("Fish")))), Kind("Fish")
+>>> world = World(cat, fish, Role("Box", Method("get", Way(read("T"))), Method("put", Way(read("Object"), read("T"))), T="both"))
+>>> world.allows(read("Cat"), ("eat", ("Fish",)), ("eat", ("Cat",))), world.result(read("Box[Cat | Fish]"), ("get", ())).text, least_marks(world, "Box"), list(world.each_use(read("Box[Fish]")))
+(False, 'Cat | Fish', ('both',), [('get', ()), ('put', ('Fish',))])
+
+>>> from shapetypes.declarations import Kind, Method, Role, Way
+>>> from shapetypes.fitting import check_decision, decide, fits
+>>> from shapetypes.shapes import Shape
+>>> from shapetypes.worlds import World
+>>> read = Shape.read
+>>> cat = Kind("Cat", Method("eat", Way(read("Cat"), read("Fish"))))
+>>> dog = Kind("Dog", Method("eat", Way(read("Dog"), read("Fish | Cat"))))
+>>> world = World(cat, dog, Kind("Fish"), Role("Eater", Method("eat", Way(read("Eater"), read("Fish")))))
+>>> fits(world, read("Cat | Dog"), read("Eater")), fits(world, read("Dog"), read("Cat")), decide(world, read("Cat"), read("Dog")), len(decide(world, read("Cat"), read("Eater"))[1])
+(True, True, ('use', (('eat', ('Cat',)),)), 1)
+
+>>> from shapetypes.declarations import Kind, Method, Role, Way
+>>> from shapetypes.members import Narrower, members
+>>> from shapetypes.shapes import Shape
+>>> from shapetypes.worlds import World
+>>> read = Shape.read
+>>> cat = Kind("Cat", Method("eat", Way(read("Cat"), read("Fish"))))
+>>> dog = Kind("Dog", Method("eat", Way(read("Dog"), read("Fish")), Way(read("Object"), read("Fish | Cat"))))
+>>> world = World(cat, dog, Kind("Fish"), Role("Eater", Method("eat", Way(read("Eater"), read("Fish")))))
+>>> narrower = Narrower(world, read("Dog"), read("Eater"))
+>>> members(world, read("Eater")), narrower(("Fish", "Dog", "Cat")), narrower.case_of("Cat"), narrower.is_complete(("Cat", "Dog"))
+(('Cat', 'Dog'), (('Dog',), ('Cat',), ('Fish',)), 1, True)
+
+>>> from shapetypes.calls import called, dead_ways, overlaps
+>>> from shapetypes.declarations import Kind, Method, Role, Way
+>>> from shapetypes.shapes import Atom, Shape
+>>> from shapetypes.worlds import World
+>>> read = Shape.read
+>>> cat = Kind("Cat", Method("eat", Way(read("Cat"), read("Fish"))))
+>>> dog = Kind("Dog", Method("eat", Way(read("Dog"), read("Fish")), Way(read("Object"), read("Fish | Cat"))))
+>>> world = World(cat, dog, Kind("Fish"), Role("Eater", Method("eat", Way(read("Eater"), read("Fish")))))
+>>> called(world, ("Cat", "Dog"), "eat", ("Fish",)), called(world, ("Dog",), "eat", ("Cat",)), dead_ways(world, Atom("Dog")), list(overlaps(world, Atom("Dog"), "eat"))
+(('Cat', 'Dog'), ('Cat', 'Dog', 'Fish'), (), [(0, 1, ('Fish',))])
 """
 
 import doctest
@@ -30,7 +73,7 @@ class Examples(unittest.TestCase):
         self.assertEqual(result.failed, 0, "".join(told))
 
     def test_document(self):
-        self.run_examples(__doc__, 8)
+        self.run_examples(__doc__, 43)
 
     def test_readme(self):
         # Doctest reads the closing fence of a block as an expected line.

@@ -6,7 +6,7 @@ import pathlib
 import unittest
 
 import shapetypes
-from shapetypes import declarations, errors, shapes
+from shapetypes import calls, declarations, errors, fitting, members, shapes, worlds
 
 FOLDER = pathlib.Path(shapetypes.__file__).parent
 LIBRARY = ("heapq", "math", "itertools", "collections")
@@ -37,6 +37,16 @@ INTERFACE = {
     declarations.Declaration: ("MAX_METHODS",),
     declarations.Kind: ("__init__", "of", "name", "methods"),
     declarations.Role: ("__init__", "of", "name", "methods", "marks", "MAX_PARAMETERS"),
+    worlds.World: (
+        "__init__", "of", "declarations", "kinds", "roles", "__contains__", "__getitem__", "is_plain", "check_shape",
+        "is_kind_set", "is_use", "allows", "result", "each_use", "MAX_KINDS", "MAX_ROLES",
+    ),
+    members.Narrower: ("__init__", "cases", "__call__", "is_complete", "case_of"),
+}
+FUNCTIONS = {
+    worlds: ("World", "least_marks"), fitting: ("fits", "are_alike", "decide", "check_decision"),
+    members: ("members", "Narrower"), calls: ("called", "dead_ways", "overlaps"),
+    shapes: ("Atom", "Shape"), declarations: ("Way", "Method", "Declaration", "Kind", "Role"),
 }
 
 
@@ -135,7 +145,8 @@ class Language(unittest.TestCase):
                 self.assertNotIn(name, BARRED)
                 self.assertTrue(name in SPECIAL or not name.startswith("__"), name)
             for node in ast.walk(tree):
-                if isinstance(node, ast.Name):
+                # Doctest gives the name _ to the last value that it has shown.
+                if isinstance(node, ast.Name) and node.id != "_":
                     barred = isinstance(node.ctx, ast.Store) or node.id not in BUILTINS
                     self.assertFalse(barred and hasattr(builtins, node.id), node.id)
 
@@ -148,6 +159,38 @@ class Language(unittest.TestCase):
                     if isinstance(node.value, str) and node not in documented:
                         self.assertNotIn("%", node.value)
 
+    def test_no_sets_and_no_generator_expressions(self):
+        barred = (ast.Set, ast.SetComp, ast.GeneratorExp, ast.Lambda)
+        for path, text, tree in self.each():
+            for node in ast.walk(tree):
+                self.assertNotIsInstance(node, barred)
+                if isinstance(node, ast.Call) and isinstance(node.func, ast.Name):
+                    self.assertNotIn(node.func.id, ("set", "frozenset"))
+
+    def test_only_numbers_and_texts_are_sorted(self):
+        for path, text, tree in self.each():
+            for node in ast.walk(tree):
+                if isinstance(node, ast.Attribute):
+                    self.assertNotEqual(node.attr, "sort")
+                if isinstance(node, ast.Call) and ast.unparse(node.func) == "sorted":
+                    self.assertEqual((len(node.args), node.keywords), (1, []))
+                    self.assertRegex(ast.unparse(node.args[0]), r"^\[(str|int)\([a-z]+\) for ")
+
+    def test_properties_are_not_assigned(self):
+        properties, assigned, methods = set(), {}, {}
+        for path, text, tree in self.each():
+            for made in [node for node in ast.walk(tree) if isinstance(node, ast.ClassDef)]:
+                inside = [node for node in made.body if isinstance(node, ast.FunctionDef)]
+                properties |= {node.name for node in inside
+                               if "property" in [ast.unparse(part) for part in node.decorator_list]}
+                methods[made.name] = {node.name for node in inside}
+                assigned[made.name] = {node.attr for node in ast.walk(made)
+                                       if isinstance(node, ast.Attribute) and isinstance(node.ctx, ast.Store)}
+        for name in assigned:
+            self.assertEqual(assigned[name] & properties, set(), name)
+            for other in methods:
+                self.assertEqual(assigned[name] & methods[other], set(), (name, other))
+
     def test_interface_is_defined_in_its_classes(self):
         for made, names in INTERFACE.items():
             for name in names:
@@ -157,10 +200,12 @@ class Language(unittest.TestCase):
                 self.assertIn("__init__", vars(value), name)
 
     def test_interface_is_defined_in_its_files(self):
-        for made in INTERFACE:
-            self.assertTrue(made.__module__ in ("shapetypes.shapes", "shapetypes.declarations"))
-        self.assertEqual(shapes.Shape.__module__, "shapetypes.shapes")
-        self.assertEqual(shapes.Atom.__module__, "shapetypes.shapes")
+        for module, names in FUNCTIONS.items():
+            for name in names:
+                self.assertEqual(getattr(module, name).__module__, module.__name__)
+        tree = ast.parse((FOLDER / "fitting.py").read_text(encoding="utf-8"))
+        assigned = [node.targets[0].id for node in tree.body if isinstance(node, ast.Assign)]
+        self.assertIn("MAX_PAIRS", assigned)
 
 
 if __name__ == "__main__":
