@@ -20,7 +20,8 @@ class Book(Uses):
     A question is whether one shape fits another one. It stands for the pairs of all atoms of the first
     shape with the second one, and the steps from a pair lead to questions. Of some pairs it is known
     whether the atom fits the shape, and a region in which the pair lies; of others, that too many pairs are
-    reached from them. The outcome of a question is None if too many pairs are reached.
+    reached from them. The outcome of a question is None if too many pairs are reached. What is known of
+    programs is kept by their texts.
     """
 
     def __init__(self, plan):
@@ -30,6 +31,8 @@ class Book(Uses):
         self.good = {}
         self.regions = {}
         self.far = {}
+        self.jumps = {}
+        self.flows = {}
         self._questions = []
         self._question_numbers = {}
         self._question_pairs = {}
@@ -40,6 +43,10 @@ class Book(Uses):
     def is_full(self):
         """Whether so much is kept that another book shall be begun."""
         return self.kept > MAX_KEPT
+
+    def size(self):
+        """About how many bytes are kept."""
+        return self.kept + self._seen_size
 
     def question(self, source, target):
         """The number of the question whether a shape fits another one."""

@@ -37,13 +37,23 @@ def results_of_call(book, receivers, name, combinations):
     """The different results of a use of receivers with all tuples of kinds; refuses the first one not taken."""
     found = {}
     for receiver in receivers:
-        table = book.table(book.plan.ranks[receiver])
         for kinds in combinations:
-            use = book.plan.use_number((name, kinds)) if isinstance(name, str) else None
-            if use not in table:
+            result = result_of_use(book, receiver, (name, kinds)) if isinstance(name, str) else None
+            if result is None:
                 raise NotTaken((receiver, (name, kinds)))
-            found[table[use]] = True
+            found[result] = True
     return list(found)
+
+
+def result_of_use(book, kind, use):
+    """The number of the result of a use for a kind, or None if the kind does not allow it."""
+    return book.table(book.plan.ranks[kind]).get(book.plan.use_number(use))
+
+
+def kinds_of_use(book, kind, use):
+    """The kinds that the result of a use for a kind can have, or None if the kind does not allow it."""
+    result = result_of_use(book, kind, use)
+    return None if result is None else members_of(book, result)
 
 
 def dead_ways(world, atom):

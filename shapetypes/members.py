@@ -32,16 +32,22 @@ def check_kinds(known, kinds, part):
         seen[kind] = True
 
 
+def first_rows(kinds, rows):
+    """For each kind the number of the first row in which it stands, or None."""
+    told = {kind: None for kind in kinds}
+    for number, row in enumerate(rows):
+        for kind in row:
+            if told[kind] is None:
+                told[kind] = number
+    return told
+
+
 class Narrower:
     """Sorts kinds by cases: each one goes to the first case of which it is a member."""
 
     def __init__(self, world, *cases):
         self._cases = cases
-        self._goes = {kind: None for kind in world.kinds}
-        for number, case in enumerate(cases):
-            for kind in members(world, case):
-                if self._goes[kind] is None:
-                    self._goes[kind] = number
+        self._goes = first_rows(world.kinds, [members(world, case) for case in cases])
 
     @property
     def cases(self):

@@ -8,6 +8,9 @@ from shapetypes.names import OBJECT
 from shapetypes.plans import Plan
 from shapetypes.rules import check_names, check_ways
 
+# About how many bytes the book of a world may keep that rests.
+MAX_RESTING = 2000000
+
 
 class World:
     """Kinds and roles, and what their shapes allow."""
@@ -63,6 +66,11 @@ class World:
             self._book = Book(self._plan)
         self._book.tidy()
         return self._book
+
+    def rest(self):
+        """Keep only little of what was worked out; for worlds that are kept, but hardly asked any more."""
+        if self._book.size() > MAX_RESTING:
+            self._book = Book(self._plan)
 
     def least(self):
         """The least marks of all declarations, by their names."""

@@ -65,3 +65,20 @@ def cycles():
         Role("Box", Method("next", way("Box[T, U]")), T="none", U="none"),
         Role("Bag", T="none", U="none"), Role("Next", Method("next", way("Next"))),
     )
+
+
+def stairs():
+    """The largest number of kinds; the call of pick of the kind K0 has twelve of them as results, K1 eleven, and so on.
+
+    The call of stop has none, and only the last kind allows last.
+    """
+    names = [f"K{number}" for number in range(12)]
+    roles = [Role(f"L{number}", Method("at", way("Object", name))) for number, name in enumerate(names[:8])]
+    kinds = []
+    for number, name in enumerate(names):
+        given = [
+            Method("at", Way(read("Object"), Shape.of_names(*names[:number + 1]))),
+            Method("pick", way(f"L{number}" if number < 8 else name)), Method("stop", way("Never")),
+        ]
+        kinds.append(Kind(name, *given, *([Method("last", way("K11"))] if number == 11 else [])))
+    return World(*kinds, *roles)

@@ -54,6 +54,43 @@
 >>> world = World(cat, dog, Kind("Fish"), Role("Eater", Method("eat", Way(read("Eater"), read("Fish")))))
 >>> called(world, ("Cat", "Dog"), "eat", ("Fish",)), called(world, ("Dog",), "eat", ("Cat",)), dead_ways(world, Atom("Dog")), list(overlaps(world, Atom("Dog"), "eat"))
 (('Cat', 'Dog'), ('Cat', 'Dog', 'Fish'), (), [(0, 1, ('Fish',))])
+
+>>> from shapetypes.declarations import Kind, Method, Role, Way
+>>> from shapetypes.programs import Program
+>>> from shapetypes.runs import environments, judge, run
+>>> from shapetypes.shapes import Shape
+>>> from shapetypes.worlds import World
+>>> read = Shape.read
+>>> cat = Kind("Cat", Method("eat", Way(read("Cat"), read("Fish"))))
+>>> dog = Kind("Dog", Method("eat", Way(read("Dog"), read("Fish")), Way(read("Object"), read("Fish | Cat"))))
+>>> world = World(cat, dog, Kind("Fish"), Role("Eater", Method("eat", Way(read("Eater"), read("Fish")))))
+>>> program = Program.read("new f Fish\\nnew d Dog\\nnew c Cat\\ncall x d eat c\\nmatch x\\ncase Eater\\ncall y x eat f\\nelse\\ncall y x eat f\\nend")
+>>> judge(world, program), run(world, program, ("Cat", "Cat")), list(environments(world, program, 9))
+(('refused', 9, ('Fish',)), ('done', ('Fish', 'Dog', 'Cat', 'Cat', 'Cat')), [('Fish', 'Dog', 'Cat', 'Fish', None)])
+
+>>> from shapetypes.declarations import Kind, Method, Role, Way
+>>> from shapetypes.live import PledgedWorld
+>>> from shapetypes.shapes import Shape
+>>> read = Shape.read
+>>> live = PledgedWorld(Kind("Fish"))
+>>> live.add(Role("Eater", Method("eat", Way(read("Eater"), read("Fish")))))
+>>> live.add(Kind("Cat", Method("eat", Way(read("Cat"), read("Fish")))))
+>>> live.pledge(read("Cat"), read("Eater"))
+>>> live.undo()
+>>> live.drop("Cat")
+>>> live.world.kinds, "Eater" in live, len(live), live.accepts(Kind("Fish")), [change[0] for change in live.log]
+(('Fish',), True, 2, False, ['add', 'add', 'drop'])
+
+>>> from shapetypes.declarations import Kind, Method, Role, Way
+>>> from shapetypes.shapes import Shape
+>>> from shapetypes.tables import fit_table
+>>> from shapetypes.worlds import World
+>>> read = Shape.read
+>>> cat = Kind("Cat", Method("eat", Way(read("Cat"), read("Fish"))))
+>>> dog = Kind("Dog", Method("eat", Way(read("Dog"), read("Fish")), Way(read("Object"), read("Fish | Cat"))))
+>>> world = World(cat, dog, Kind("Fish"), Role("Eater", Method("eat", Way(read("Eater"), read("Fish")))))
+>>> fit_table(world, read("Dog"), read("Cat"), read("Fish"))
+'     1  2  3\\n  1  +  +  +\\n  2  -  +  +\\n  3  -  -  +'
 """
 
 import doctest
@@ -73,7 +110,7 @@ class Examples(unittest.TestCase):
         self.assertEqual(result.failed, 0, "".join(told))
 
     def test_document(self):
-        self.run_examples(__doc__, 43)
+        self.run_examples(__doc__, 74)
 
     def test_readme(self):
         # Doctest reads the closing fence of a block as an expected line.

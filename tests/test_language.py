@@ -6,7 +6,9 @@ import pathlib
 import unittest
 
 import shapetypes
-from shapetypes import calls, declarations, errors, fitting, members, shapes, worlds
+from shapetypes import (
+    calls, declarations, errors, fitting, live, members, programs, runs, shapes, tables, worlds,
+)
 
 FOLDER = pathlib.Path(shapetypes.__file__).parent
 LIBRARY = ("heapq", "math", "itertools", "collections")
@@ -42,10 +44,16 @@ INTERFACE = {
         "is_kind_set", "is_use", "allows", "result", "each_use", "MAX_KINDS", "MAX_ROLES",
     ),
     members.Narrower: ("__init__", "cases", "__call__", "is_complete", "case_of"),
+    programs.Program: ("read", "text", "slots", "__len__", "__eq__", "MAX_LINES", "MAX_VARIABLES", "MAX_NESTING"),
+    live.LiveWorld: (
+        "__init__", "world", "log", "__len__", "__contains__", "add", "drop", "accepts", "undo", "worlds", "MAX_CHANGES",
+    ),
+    live.PledgedWorld: ("__init__", "pledges", "pledge"),
 }
 FUNCTIONS = {
     worlds: ("World", "least_marks"), fitting: ("fits", "are_alike", "decide", "check_decision"),
-    members: ("members", "Narrower"), calls: ("called", "dead_ways", "overlaps"),
+    members: ("members", "Narrower"), calls: ("called", "dead_ways", "overlaps"), programs: ("Program",),
+    runs: ("run", "judge", "environments"), live: ("LiveWorld", "PledgedWorld"), tables: ("fit_table",),
     shapes: ("Atom", "Shape"), declarations: ("Way", "Method", "Declaration", "Kind", "Role"),
 }
 
@@ -203,9 +211,10 @@ class Language(unittest.TestCase):
         for module, names in FUNCTIONS.items():
             for name in names:
                 self.assertEqual(getattr(module, name).__module__, module.__name__)
-        tree = ast.parse((FOLDER / "fitting.py").read_text(encoding="utf-8"))
-        assigned = [node.targets[0].id for node in tree.body if isinstance(node, ast.Assign)]
-        self.assertIn("MAX_PAIRS", assigned)
+        for file, name in (("fitting.py", "MAX_PAIRS"), ("runs.py", "MAX_ENVIRONMENTS")):
+            tree = ast.parse((FOLDER / file).read_text(encoding="utf-8"))
+            assigned = [node.targets[0].id for node in tree.body if isinstance(node, ast.Assign)]
+            self.assertIn(name, assigned)
 
 
 if __name__ == "__main__":
