@@ -1,7 +1,7 @@
 """Questions whether shapes fit, the pairs behind them, and what is known of these."""
 
 from shapetypes.numbering import ENTRY_SIZE, NUMBER_SIZE
-from shapetypes.uses import Uses
+from shapetypes.uses import Uses, all_places, first_spot
 
 # About how many bytes a book may keep before another one is begun.
 MAX_KEPT = 100000000
@@ -89,24 +89,44 @@ class Book(Uses):
     def steps_from(self, pair):
         """Work out the steps from a pair."""
         part, target = self._pairs[pair]
-        if not self.bits[target] or self.failing_use(pair) is not None:
+        if not self.bits[target]:
             return None
-        table = self.table(part)
-        # Many uses have the same results.
-        found = {(table[use], result): True for use, result in self.allowed(target).items()}
-        return tuple([self.question(mine, result) for mine, result in found])
+        groups = self.groups(part)
+        found = {}
+        for method, rows in self.allowed(target).items():
+            own = groups.get(method, ())
+            for places, result in rows:
+                left = places
+                for own_places, mine in own:
+                    if places & own_places:
+                        found[(mine, result)] = True
+                        left = left & ~own_places
+                if left:
+                    return None
+        # Most questions have been numbered before; asking for each number by a call would take longer.
+        numbers = self._question_numbers
+        fresh = [row for row in found if row not in numbers]
+        for mine, result in fresh:
+            self.question(mine, result)
+        return tuple([numbers[row] for row in found])
 
     def use_between(self, pair, question):
-        """A use by which a step leads from a pair to a question."""
+        """The numbers of a use by which a step leads from a pair to a question."""
         part, target = self._pairs[pair]
-        table = self.table(part)
-        row = self._questions[question]
-        uses = [use for use, result in self.allowed(target).items() if (table[use], result) == row]
-        return uses[0]
+        groups = self.groups(part)
+        for method, rows in self.allowed(target).items():
+            for places, result in rows:
+                for own_places, mine in groups[method]:
+                    if places & own_places and (mine, result) == self._questions[question]:
+                        return method, first_spot(places & own_places)
+        return None
 
     def failing_use(self, pair):
-        """A use with a number that the shape of a pair allows and its atom does not, or None."""
+        """The numbers of a use that the shape of a pair allows and its atom does not, or None."""
         part, target = self._pairs[pair]
-        table = self.table(part)
-        uses = [use for use in self.allowed(target) if use not in table]
-        return uses[0] if uses else None
+        groups = self.groups(part)
+        for method, rows in self.allowed(target).items():
+            left = all_places(rows) & ~all_places(groups.get(method, ()))
+            if left:
+                return method, first_spot(left)
+        return None

@@ -3,6 +3,7 @@
 from shapetypes.declarations import Way
 from shapetypes.errors import NotTaken, UnknownName
 from shapetypes.members import check_kinds, members_of
+from shapetypes.numbering import spots_in
 
 
 def called(world, receivers, name, *arguments):
@@ -47,7 +48,8 @@ def results_of_call(book, receivers, name, combinations):
 
 def result_of_use(book, kind, use):
     """The number of the result of a use for a kind, or None if the kind does not allow it."""
-    return book.table(book.plan.ranks[kind]).get(book.plan.use_number(use))
+    method, spot = book.plan.numbers_of(use)
+    return None if method is None else book.result_of(book.plan.ranks[kind], method, spot)
 
 
 def kinds_of_use(book, kind, use):
@@ -62,12 +64,12 @@ def dead_ways(world, atom):
     name, arguments = book.row_of(book.enter_atom(atom))
     told = []
     for method, _, templates in book.plan.templates(name):
-        seen = {}
+        seen = 0
         for number, template in enumerate(templates):
-            spots = book.taken(template, arguments)
-            if all([spot in seen for spot in spots]):
+            places = book.taken(template, arguments)
+            if not places & ~seen:
                 told.append((method, number))
-            seen.update({spot: True for spot in spots})
+            seen = seen | places
     return tuple(told)
 
 
@@ -85,13 +87,15 @@ def overlaps(world, atom, name):
 
 
 def overlapping(rows):
-    """The triples of the numbers of two rows and a place in both that is in no row before the first one."""
-    tables = [{spot: True for spot in row} for row in rows]
+    """The triples of the numbers of two rows and a place in both that is in no row before the first one.
+
+    The places in a row are told as bits.
+    """
     told = []
-    seen = {}
-    for first, row in enumerate(rows):
-        fresh = [spot for spot in row if spot not in seen]
+    seen = 0
+    for first, places in enumerate(rows):
         for second in range(first + 1, len(rows)):
-            told.extend([(first, second, spot) for spot in fresh if spot in tables[second]])
-        seen.update(tables[first])
+            both = places & rows[second] & ~seen
+            told.extend([(first, second, spot) for spot in spots_in(both)])
+        seen = seen | places
     return told

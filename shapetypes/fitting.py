@@ -71,16 +71,18 @@ def path_to(book, came, failing):
     reached = came[failing]
     while reached is not None:
         pair, question = reached
-        uses.append(book.plan.use_at(book.use_between(pair, question)))
+        method, spot = book.use_between(pair, question)
+        uses.append(book.plan.use_at(method, spot))
         reached = came[pair]
     return tuple(uses[::-1])
 
 
 def last_use(book, pair):
     """A use that the shape of a pair that fails allows, and its atom does not."""
-    use = book.failing_use(pair)
-    if use is not None:
-        return book.plan.use_at(use)
+    failing = book.failing_use(pair)
+    if failing is not None:
+        method, spot = failing
+        return book.plan.use_at(method, spot)
     part, _ = book.pair_at(pair)
     name, _ = book.row_of(part)
     methods = [method for method, _, _ in book.plan.templates(name)]

@@ -22,7 +22,7 @@ class Layout:
     def __init__(self, world, many):
         ranked = sorted([str(kind) for kind in world.kinds])
         self.words = (None, *ranked)
-        self.values = {kind: value for value, kind in enumerate(self.words)}
+        self.codes = {kind: value for value, kind in enumerate(self.words)}
         self.shifts = [WIDTH * (many - 1 - place) for place in range(many)]
 
     def mask_of(self, places):
@@ -102,7 +102,7 @@ class Follower:
     def after_new(self, line, rows):
         """The environments behind a line "new"."""
         shift = self.layout.shifts[line.places[0]]
-        value = self.layout.values[line.label] << shift
+        value = self.layout.codes[line.label] << shift
         kept = ~(VALUE << shift)
         return {environment & kept | value: trail for environment, trail in rows.items()}
 
@@ -131,7 +131,7 @@ class Follower:
     def values_of_call(self, line, environment):
         """The values that a call can give to its variable in an environment, or None if it fails."""
         kinds = kinds_of_call(self._world, line, self.layout.environment_at(environment))
-        return None if kinds is None else [self.layout.values[kind] for kind in kinds]
+        return None if kinds is None else [self.layout.codes[kind] for kind in kinds]
 
     def scatter(self, number, line, rows, goals):
         """Let the environments that reach a match reach the blocks to which kinds go."""

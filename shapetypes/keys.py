@@ -6,11 +6,13 @@ class Key:
 
     A row is the tuple of the atoms of its shape, each one a pair of its name and the numbers of the
     rows of its arguments. Rows stand in the order in which the text ends their shapes first, so that
-    they are the same for all equal shapes. Keys themselves are told apart by identity.
+    they are the same for all equal shapes. Keys themselves are told apart by identity. What the shape needs
+    to be one of a world is found later, if at all.
     """
 
     def __init__(self, rows):
         self.rows = rows
+        self.facts = None
 
 
 def key_of(atoms):

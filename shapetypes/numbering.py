@@ -1,15 +1,26 @@
 """The atoms and shapes of a world by number: equal ones have the same number."""
 
 from shapetypes.errors import UnknownName, WrongArguments
+from shapetypes.facts import KIND_SET_MARKS
 from shapetypes.shapes import Atom, Shape
 
-KIND_SET_MARKS = ("in", "both")
 # About how many bytes are kept for a number, and for a number in a tuple.
 ENTRY_SIZE = 400
 NUMBER_SIZE = 8
 # About how many bytes an atom or a row takes in the key of a shape, and how many may be kept in all keys.
 KEY_SIZE = 200
 MAX_SEEN = 20000000
+
+
+def spots_in(bits):
+    """The positions of the bits that are set, ascending."""
+    told = []
+    rest = bits
+    while rest:
+        lowest = rest & -rest
+        told.append(lowest.bit_length() - 1)
+        rest = rest - lowest
+    return told
 
 
 class Numbering:
@@ -106,14 +117,8 @@ class Numbering:
     def parts(self, number):
         """The numbers of the atoms of a shape."""
         if number not in self._split:
-            told = []
-            rest = self.bits[number]
-            while rest:
-                lowest = rest & -rest
-                told.append(lowest.bit_length() - 1)
-                rest = rest - lowest
-            self._split[number] = tuple(told)
-            self.kept += NUMBER_SIZE * len(told)
+            self._split[number] = tuple(spots_in(self.bits[number]))
+            self.kept += NUMBER_SIZE * len(self._split[number])
         return self._split[number]
 
     def row_of(self, atom):

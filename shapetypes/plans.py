@@ -52,9 +52,9 @@ def filling(argument, spots):
 class Plan:
     """The kinds of a world, its uses by number, and what each declaration says.
 
-    Kinds are ranked by their names. The number of a use is the first number of its method, for as many
-    arguments, and behind that the place of its arguments among all tuples of kinds. So the uses of a
-    method are numbered in ascending order, and methods by their names.
+    Kinds are ranked by their names. A use is told by two numbers: that of its method, for as many arguments,
+    and the place of its arguments among all tuples of as many kinds. So the uses of a method are numbered in
+    ascending order, and methods by their names.
     """
 
     def __init__(self, declarations):
@@ -67,9 +67,8 @@ class Plan:
             self._declared[declaration.name] = declaration
             self.marked[declaration.name] = marks_of(declaration)
         self._tuples = tuples_of(self.ranked)
-        self._stride = max(1, len(self.ranked) * len(self.ranked))
         self._signatures = signatures_of(declarations)
-        self._firsts = {pair: number * self._stride for number, pair in enumerate(self._signatures)}
+        self._methods = {pair: number for number, pair in enumerate(self._signatures)}
         self._spots = {kinds: spot for row in self._tuples for spot, kinds in enumerate(row)}
         self._templates = {}
 
@@ -84,16 +83,15 @@ class Plan:
         name, kinds = value
         return is_name(name) and isinstance(kinds, tuple) and all([self.is_kind(kind) for kind in kinds])
 
-    def use_number(self, use):
-        """The number of a use, or None if no declaration has a method for it."""
+    def numbers_of(self, use):
+        """The two numbers of a use, or twice None if no declaration has a method for it."""
         name, kinds = use
-        first = self._firsts.get((name, len(kinds)))
-        return None if first is None else first + self._spots[kinds]
+        method = self._methods.get((name, len(kinds)))
+        return (None, None) if method is None else (method, self._spots[kinds])
 
-    def use_at(self, number):
-        """The use with a number."""
-        signature, spot = divmod(number, self._stride)
-        name, many = self._signatures[signature]
+    def use_at(self, method, spot):
+        """The use with these numbers."""
+        name, many = self._signatures[method]
         return name, self._tuples[many][spot]
 
     def kinds_at(self, many, spot):
@@ -101,15 +99,15 @@ class Plan:
         return self._tuples[many][spot]
 
     def templates(self, name):
-        """The methods of a declaration or Object: triples of name, first number, and templates of ways."""
+        """The methods of a declaration or Object: triples of name, number, and templates of ways."""
         if name not in self._templates:
             told = []
             if name in self._declared:
                 spots = spots_of(self._declared[name])
                 for method in self._declared[name].methods:
-                    first = self._firsts[(method.name, len(method.ways[0].parameters))]
+                    number = self._methods[(method.name, len(method.ways[0].parameters))]
                     ways = tuple([Template(way, self.ranks, spots) for way in method.ways])
-                    told.append((method.name, first, ways))
+                    told.append((method.name, number, ways))
             self._templates[name] = tuple(told)
         return self._templates[name]
 

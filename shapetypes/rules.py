@@ -2,6 +2,7 @@
 
 from shapetypes.declarations import Kind, Role
 from shapetypes.errors import InvalidWorld
+from shapetypes.facts import KIND_SET_MARKS, facts_of
 from shapetypes.marks import parameter_in, spots_of
 
 
@@ -35,9 +36,16 @@ def check_way(book, way, spots, at):
         for atom in parameter.atoms:
             if atom.name not in spots and not book.plan.is_kind(atom.name):
                 raise InvalidWorld("parameter", (*at, position))
-    for atom in way.gives.atoms:
-        if not is_right(book, atom, spots):
-            raise InvalidWorld("result", at)
+    if not is_right_result(book, way.gives, spots):
+        raise InvalidWorld("result", at)
+
+
+def is_right_result(book, shape, spots):
+    """Whether a shape can be the result of a way."""
+    facts = facts_of(shape.key)
+    if facts is None or any([parameter in facts.names for parameter in spots]):
+        return all([is_right(book, atom, spots) for atom in shape.atoms])
+    return facts.hold(book.plan)
 
 
 def is_right(book, atom, spots):
@@ -54,4 +62,7 @@ def is_right_argument(book, argument, mark, spots):
     """Whether a shape can be an argument in a result, for a parameter with this mark."""
     if parameter_in(argument, spots) is not None:
         return True
-    return book.is_plain(argument) and book.is_marked_so(book.enter(argument), mark)
+    if mark in KIND_SET_MARKS:
+        return all([book.plan.is_kind(atom.name) and not atom.arguments for atom in argument.atoms])
+    facts = facts_of(argument.key)
+    return book.is_plain(argument) if facts is None else facts.hold(book.plan)

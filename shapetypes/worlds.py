@@ -5,8 +5,10 @@ from shapetypes.declarations import Kind, Role
 from shapetypes.errors import InvalidUse, InvalidWorld, NotAllowed, UnknownName
 from shapetypes.marks import check_marks, least_of
 from shapetypes.names import OBJECT
+from shapetypes.numbering import spots_in
 from shapetypes.plans import Plan
 from shapetypes.rules import check_names, check_ways
+from shapetypes.uses import all_places
 
 # About how many bytes the book of a world may keep that rests.
 MAX_RESTING = 2000000
@@ -122,8 +124,10 @@ class World:
         """The uses that a shape allows, ascending; none for Never."""
         book = self.book()
         number = book.enter(shape)
-        for use in sorted([int(use) for use in book.allowed(number)]):
-            yield self._plan.use_at(use)
+        groups = book.allowed(number)
+        for method in sorted([int(method) for method in groups]):
+            for spot in spots_in(all_places(groups[method])):
+                yield self._plan.use_at(method, spot)
 
 
 def least_marks(world, name):

@@ -199,6 +199,38 @@ class Language(unittest.TestCase):
             for other in methods:
                 self.assertEqual(assigned[name] & methods[other], set(), (name, other))
 
+    def test_no_names_of_parts_of_builtin_values(self):
+        """Methods and attributes have no names that methods of builtin values have, but for add."""
+        taken = {name for made in (str, int, list, dict, set, bytes, tuple, range) for name in dir(made) if name[0] != "_"}
+        for path, text, tree in self.each():
+            for node in ast.walk(tree):
+                if isinstance(node, ast.Attribute) and isinstance(node.ctx, ast.Store):
+                    self.assertNotIn(node.attr, taken)
+                if isinstance(node, ast.ClassDef):
+                    named = {part.name for part in node.body if isinstance(part, ast.FunctionDef)}
+                    self.assertLessEqual(named & taken, {"add"})
+
+    def test_no_name_of_a_class_or_an_import_is_used_again(self):
+        for path, text, tree in self.each():
+            named = {alias.name for node in tree.body if isinstance(node, ast.ImportFrom) for alias in node.names}
+            named |= {node.name for node in tree.body if isinstance(node, (ast.ClassDef, ast.FunctionDef))}
+            for node in ast.walk(tree):
+                if isinstance(node, ast.Name) and isinstance(node.ctx, ast.Store):
+                    self.assertNotIn(node.id, named)
+                if isinstance(node, ast.arg):
+                    self.assertNotIn(node.arg, named)
+
+    def test_generators(self):
+        """No other function or method has the name of a generator."""
+        generators, others = [], []
+        for path, text, tree in self.each():
+            for node in ast.walk(tree):
+                if isinstance(node, ast.FunctionDef):
+                    yields = [part for part in ast.walk(node) if isinstance(part, (ast.Yield, ast.YieldFrom))]
+                    (generators if yields else others).append(node.name)
+        self.assertEqual(sorted(generators), ["each_use", "environments", "overlaps", "worlds"])
+        self.assertEqual(set(generators) & set(others), set())
+
     def test_interface_is_defined_in_its_classes(self):
         for made, names in INTERFACE.items():
             for name in names:

@@ -275,6 +275,11 @@ class Environments(RunTests):
                 next(iter(environments(world, given, value)))
             self.assertIs(caught.exception.value, value)
 
+    def test_numbers_around_the_lines(self):
+        for value in (0, -1, -2, 3, 10 ** 900):
+            with self.assertRaises(InvalidNumber):
+                list(environments(farm(), program("new x Cat", "new x Dog"), value))
+
     def test_nothing_is_kept_from_a_list(self):
         world, given = farm(), Program.read(EXAMPLE)
         rows = list(environments(world, given, 5))

@@ -1,20 +1,26 @@
 """The largest worlds, shapes, paths and values: the functions of worlds end quickly for them."""
 
+import contextlib
 import itertools
 import random
 import time
 import unittest
 from unittest import mock
 
-from samples import boxes, cycles, farm, numbered, read, way
+from samples import boxes, cycles, farm, numbered, read, stairs, way
 from shapetypes.calls import called, dead_ways, overlaps
 from shapetypes.declarations import Kind, Method, Role, Way
 from shapetypes.errors import (
-    InvalidAnswer, InvalidKinds, InvalidUse, InvalidWorld, NotTaken, TooLarge, UnknownName,
+    Broken, InvalidAnswer, InvalidChoice, InvalidKinds, InvalidNumber, InvalidUse, InvalidWorld, NotTaken, ParseError,
+    TooLarge, UnknownName,
 )
 from shapetypes.fitting import check_decision, decide, fits
+from shapetypes.live import LiveWorld, PledgedWorld
 from shapetypes.members import Narrower, members
+from shapetypes.programs import Program
+from shapetypes.runs import environments, judge, run
 from shapetypes.shapes import Atom, Shape
+from shapetypes.tables import fit_table
 from shapetypes.worlds import World, least_marks
 from values import large_shape, shared_dict, shared_list, shared_tuple
 
@@ -43,6 +49,26 @@ def full_world(seed, results):
         swap = Method("swap", way(f"R{(number + 1) % 8}[U, T]", "T", "U"))
         roles.append(Role(f"R{number}", *methods(3), Method("get", way("T | U")), swap, T="both", U="both"))
     return World(*[Kind(name, *methods(5)) for name in NAMES], *roles)
+
+
+def rolling_world(seed, many=10):
+    """A world in which a shape of a role and a kind leads to all shapes of other roles and other kinds."""
+    chance = random.Random(seed)
+    names = NAMES[:many]
+    every = Shape.of_names(*names)
+
+    def methods(result):
+        made = []
+        for number in range(5):
+            ways = [Way(result(), *[Shape.of_names(*chance.sample(names, many // 2)) for _ in range(2)]) for _ in range(3)]
+            made.append(Method(f"m{number}", *ways, Way(result(), every, every)))
+        return made
+
+    def role():
+        return way(f"R{chance.randrange(8)}[" + chance.choice(["T, U", "U, T"]) + "]").gives
+
+    kinds = [Kind(name, *methods(lambda: read(chance.choice(names)))) for name in names]
+    return World(*kinds, *[Role(f"R{number}", *methods(role), T="both", U="both") for number in range(8)])
 
 
 class Speed(unittest.TestCase):
@@ -135,10 +161,12 @@ class Speed(unittest.TestCase):
 
     def test_values_with_very_many_parts(self):
         world, cat = farm(), read("Cat")
-        narrower = Narrower(world, cat)
+        narrower, program = Narrower(world, cat), Program.read("new x Cat\nnew y Fish\ncall x x eat y")
+        live, pledged = LiveWorld(Kind("Cat")), PledgedWorld(Kind("Cat"))
         large = large_shape()
         for value in (shared_tuple(), shared_list(), shared_dict(), large, large.atoms[0], large.atoms):
             self.assertFalse(value in world)
+            self.assertFalse(value in live or value in pledged or live.accepts(value) or program == value)
             self.assertFalse(world.is_use(value) or world.is_use(("eat", value)) or world.is_use((value, ())))
             for error, call in (
                 (UnknownName, lambda: world[value]), (InvalidWorld, lambda: World(value)),
@@ -158,6 +186,11 @@ class Speed(unittest.TestCase):
                 (InvalidKinds, lambda: called(world, ("Cat",), "eat", (value,))),
                 (NotTaken, lambda: called(world, ("Cat",), value, ("Fish",))),
                 (UnknownName, lambda: next(iter(overlaps(world, Atom("Cat"), value)))),
+                (ParseError, lambda: Program.read(value)), (InvalidChoice, lambda: run(world, program, (value,))),
+                (InvalidNumber, lambda: next(iter(environments(world, program, value)))),
+                (UnknownName, lambda: live.drop(value)), (UnknownName, lambda: pledged.drop(value)),
+                (InvalidWorld, lambda: live.add(value)), (InvalidWorld, lambda: pledged.add(value)),
+                (InvalidWorld, lambda: LiveWorld(value)), (InvalidWorld, lambda: PledgedWorld(value)),
             ):
                 with self.assertRaises(error):
                     call()
@@ -190,6 +223,84 @@ class Speed(unittest.TestCase):
                 self.assertEqual(members(world, shape), tuple("ABCDEFG"))
                 self.assertLess(world.book().kept, 100001)
                 self.assertLess(len(world.book()._seen), 100)
+
+    def test_the_largest_programs(self):
+        """Programs with nearly 2,000 environments at nearly all lines."""
+        world, start = stairs(), ["new f K2", "call b f pick", "call c f pick", "call d f pick", "new f K10", "call e f pick"]
+        for rows in (["call d f pick", "call e f pick"] * 27, ["match b", "case L5", "new a K1", "else", "new a K2", "end"] * 9,
+                     ["call e e pick"] * 54, ["match e", "case K11", "match d", "case Object", "end", "end"] * 9):
+            program = Program.read("\n".join(start + [*rows]))
+            self.assertEqual(len(program), 60)
+            for _ in range(100):
+                self.assertIn(judge(world, program)[0], ("accepted", "refused"))
+                self.assertIn(run(world, program, ("K11",) * 60)[0], ("done", "failed"))
+                for line in range(1, 61):
+                    with contextlib.suppress(InvalidNumber):
+                        next(iter(environments(world, program, line)), None)
+            self.assertGreater(len(list(environments(world, program, 7))), 1000)
+
+    def test_very_many_programs(self):
+        world = stairs()
+        for first, last in itertools.product(NAMES, NAMES[:10]):
+            rows = [f"new x{number} {NAMES[number]}" for number in range(6)] + [f"call x{number} x0 pick" for number in (1, 2, 3)] * 10
+            rows += [f"match x{number}\ncase {first}\nelse\ncase_\nend".replace("case_", f"new x1 {last}") for number in range(4)]
+            program = Program.read("\n".join(rows))
+            for _ in range(20):
+                self.assertIn(judge(world, program)[0], ("accepted", "refused"))
+                self.assertEqual(run(world, program, ("K5",) * 60)[0], "done")
+
+    def test_texts_of_programs(self):
+        cases = " | ".join(f"a{number}" for number in range(260))
+        texts = ["match x\n" + "\n".join([f"case {cases}"] * 10) + "\nend", "\n".join(["new x Cat"] * 20000)[:20000],
+                 " ".join(["new"] * 5000), "\n" * 20000, " " * 20000, "x" * 20000, "match x\ncase " + "A[" * 9000, "call x y m" + " z" * 9000]
+        for text in texts * 10:
+            with contextlib.suppress(ParseError):
+                self.assertEqual(Program.read(text).slots, ("x",))
+
+    def test_many_cases_that_reach_many_pairs(self):
+        world = rolling_world(1)
+        sets = [Shape.of_names(*names) for names in itertools.combinations(NAMES[:10], 2)]
+        cases = [f"case {Shape(Atom('R1', *pair), Atom('K2')).text}" for pair in itertools.combinations(sets, 2)]
+        program = Program.read("\n".join(["new x K1", "match x", *cases[::18][:55], "end"]))
+        self.assertEqual(len(decide(world, read("K1"), read(cases[0][5:]))[1]), 1600)
+        for _ in range(1000):
+            self.assertEqual(judge(world, program)[0], "accepted")
+        self.assertEqual(run(world, program, ()), ("done", ("K1",)))
+
+    def test_live_worlds_of_the_largest_size(self):
+        declarations = rolling_world(9).declarations
+        added = Kind("K11", *declarations[2].methods)
+        live = PledgedWorld(*declarations, Kind("K10"))
+        for _ in range(20):
+            for _ in range(18):
+                live.pledge(read("R0[K1, K2]"), read("R3[K2, K1]"))
+                live.add(added)
+                self.assertFalse(live.accepts(Kind("K12")) or live.accepts(declarations[3]) or live.accepts(None))
+                self.assertRaises(InvalidWorld, live.drop, "K3")
+                live.undo()
+                self.assertTrue(live.accepts(added))
+                self.assertRaises(Broken, live.pledge, read("K1"), Shape())
+                self.assertEqual(len(list(live.worlds())), len(live.log) + 1)
+            while live.log:
+                live.undo()
+
+    def test_large_tables(self):
+        world = full_world(10, 1)
+        chance = random.Random(11)
+        shapes = [Shape.of_names(*chance.sample(NAMES, chance.randint(1, 2))) for _ in range(150)]
+        for _ in range(5):
+            self.assertEqual(fit_table(world, *shapes).count("+"), 150 * 150)
+
+    def test_live_worlds_keep_little(self):
+        """A world that is not the current one any more forgets what was worked out, if it is much."""
+        with mock.patch("shapetypes.worlds.MAX_RESTING", 20000):
+            live = LiveWorld(*cycles().declarations)
+            for number in range(30):
+                for shape in numbered("Box", 20):
+                    self.assertTrue(fits(live.world, Shape(shape), read("A | D")))
+                live.add(Kind(f"K{number}")) if number < 5 else live.undo() if live.log else None
+                for world in list(live.worlds())[:-1]:
+                    self.assertLess(world.book().size(), 20001)
 
     def test_questions_of_very_many_shapes(self):
         """Answers stay the same, however much was asked before."""

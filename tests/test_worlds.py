@@ -173,6 +173,21 @@ class Places(Refused):
         for text in ("Never", "Object", "Cat", "Box[Never]", "Box[Cat | Dog]", "Cell[Box[Cat]]", "Cell[Object | Cat]"):
             World(CAT, Kind("Dog", Method("eat", way(text))), Role("Box", T="in"), Role("Cell", T="none"))
 
+    def test_results_with_very_many_names(self):
+        """Results of up to 40 names, of which one is not declared or none."""
+        for many in (20, 21, 22, 29, 30, 31, 40):
+            names = [f"K{number}" for number in range(many)]
+            for text in ("Cell[" + " | ".join(names) + "]", " | ".join(names), " | ".join(f"Cell[{name}]" for name in names)):
+                self.breaks("result", ("Dog", "eat", 0), Kind("Dog", Method("eat", way(text))), Role("Cell", T="out"), *kinds(11))
+        names = [f"K{number}" for number in range(11)] + [f"R{number}" for number in range(6)] + ["Dog", "Object"]
+        for text in (" | ".join(names), "Cell[" + " | ".join(names) + "]", " | ".join(f"Cell[Jar[{name}, Dog]]" for name in names)):
+            for part in ("Dog", "Cell[Jar[Cell[Cell[K1]], Never]]", "Jar[Object, K1 | K2]"):
+                given = Kind("Dog", Method("eat", way(text + " | " + part)))
+                World(given, *kinds(11), *roles(6), Role("Cell", T="out"), Role("Jar", T="none", U="in"))
+            for part in ("Doge", "Cell[Jar[Cell[Cell[K11]], Never]]", "Jar[Dog, K1 | R2]", "Jar[Dog, Cell[Dog]]", "Cell", "Jar[Dog]"):
+                given = Kind("Dog", Method("eat", way(text + " | " + part)))
+                self.breaks("result", ("Dog", "eat", 0), given, *kinds(11), *roles(6), Role("Cell", T="out"), Role("Jar", T="none", U="in"))
+
     def test_results_of_roles(self):
         good = [
             "Never", "T", "U", "T | U", "T | Cat", "Box[T, U]", "Box[U, T]", "Box[T, T] | T", "Cell[T]", "Cell[U]",
@@ -182,7 +197,8 @@ class Places(Refused):
         wrong = [
             "V", "T[Cat]", "Cell[T | Cat]", "Cell[T | U]", "Cell[Cell[T]]", "Cell[Box[T, U]]", "Cell[T[Cat]]", "Cell[V]",
             "Cat[T]", "Object[T]", "Cell[T, T]", "Box[T]", "Box", "Box[Object, T]", "Box[T, Cell[Cat]]", "Bird",
-            "Bird[T]", "T | Bird", "Cell[Bird]", "Box[T, Bird]", "Cell[Object | T]",
+            "Bird[T]", "T | Bird", "Cell[Bird]", "Box[T, Bird]", "Cell[Object | T]", "Box[T, Cat[Dog]]", "Box[Cat[T], U]",
+            "T | Cell[" + " | ".join(f"K{number}" for number in range(40)) + "]",
         ]
         for text in [*good, *wrong]:
             role = Role("Box", Method("run", way("T")), Method("get", way("T", "T"), way(text, "U")), T="both", U="both")
