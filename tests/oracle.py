@@ -6,6 +6,7 @@ Nothing here uses the functions of worlds, fitting, members and calls: only decl
 import itertools
 
 from shapetypes.declarations import Kind, Role
+from shapetypes.errors import TooLarge
 from shapetypes.shapes import Atom, Shape
 
 DEMANDS = {"none": set(), "out": {"out"}, "in": {"in"}, "both": {"out", "in"}}
@@ -259,3 +260,20 @@ class Oracle:
             DEMANDS[marks[name]] <= DEMANDS[other[name]] for other in right for name in names)]
         assert len(least) == 1
         return least[0]
+
+
+class Bounded(Oracle):
+    """An oracle that knows the limit of pairs."""
+
+    def __init__(self, declarations):
+        super().__init__(declarations)
+        self.fitting = {}
+
+    def fits(self, source, target):
+        key = source.text, target.text
+        if key not in self.fitting:
+            reached, fitting = self.reached(source, target, 2000)
+            self.fitting[key] = fitting if len(reached) <= 2000 else None
+        if self.fitting[key] is None:
+            raise TooLarge(2000)
+        return self.fitting[key]

@@ -1,10 +1,11 @@
 """run, judge and environments (k50 to k52), calls in programs (k53), and their first errors (k54, k55)."""
 
 import itertools
+import random
 import unittest
 
-from makers import random_makers
-from oracle import Oracle
+from makers import Maker, random_makers
+from oracle import Bounded, Oracle
 from program_makers import ProgramMaker
 from program_oracle import Runs
 from samples import cycles, farm, numbered, read, stairs, way
@@ -157,6 +158,37 @@ class Judgements(RunTests):
                 seen["ended"] += len(runs.ends)
                 seen["done"] += len(runs.done)
         self.assertGreater(min(seen.values()), 20, seen)
+
+    def test_random_programs_that_are_too_large(self):
+        """Worlds in which some shapes reach too many pairs."""
+        seen = {"refused": 0, "accepted": 0, (TooLarge, 2000): 0}
+        for seed in (1114, 5224):
+            chance = random.Random(seed)
+            sizes = [chance.randint(1, many) for many in (4, 3, 4, 4)]
+            maker = Maker(seed, *sizes, even=chance.random() < 0.5)
+            world, oracle = maker.world, Bounded(maker.world.declarations)
+            for _ in range(15):
+                text = ProgramMaker(maker, 2).text(5)
+                given = Program.read(text)
+                answer = told(lambda: judge(world, given))
+                expected = told(lambda: self.bounded_runs(oracle, text))
+                if isinstance(expected, tuple):
+                    self.assertEqual(answer, expected)
+                    seen[expected] += 1
+                    continue
+                seen[answer[0]] += 1
+                for line in expected.lines():
+                    self.assertEqual(list(environments(world, given, line)), expected.environments(line))
+                if expected.failures:
+                    self.assertEqual(answer[:2], ("refused", min(expected.failures)))
+        self.assertGreater(min(seen.values()), 0, seen)
+
+    def bounded_runs(self, oracle, text):
+        """All runs; raises TooLarge if a case or the result of a call is too large."""
+        for row in text.split("\n"):
+            if row.startswith("case "):
+                oracle.members(read(row[5:]))
+        return Runs(oracle, text)
 
     def check_choices(self, world, given, choices):
         """All choices are needed, and further ones are not looked at."""
