@@ -42,7 +42,7 @@ def facts_of(key):
 
 def fillings_of(rows):
     """The fillings of a shape, as the keys of a dict."""
-    inner = [{None if filled else name: True for name, filled in row} for row in rows]
+    inner = [{None if deeper else word: True for word, deeper in row} for row in rows]
     used = {}
     for row in rows:
         for name, filled in row:

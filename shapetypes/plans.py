@@ -130,4 +130,4 @@ def signatures_of(declarations):
     for declaration in declarations:
         for method in declaration.methods:
             found.setdefault(method.name, {})[len(method.ways[0].parameters)] = True
-    return [(name, many) for name in sorted([str(name) for name in found]) for many in found[name]]
+    return [(name, many) for name in sorted([str(each) for each in found]) for many in found[name]]
